@@ -1,0 +1,1 @@
+"""Words of card moves on piles of every size."""

@@ -1,0 +1,168 @@
+"""Two models of a pile that play moves in other ways than the package does."""
+
+ENDS = ("top", "bottom")
+
+
+class CardList:
+    """A small pile as a plain list of [card, turned] that are moved one by one."""
+
+    def __init__(self, size):
+        self.cards = [[card, False] for card in range(size)]
+
+    def at(self, end_place):
+        end, depth = end_place
+        return depth if end == "top" else len(self.cards) - 1 - depth
+
+    def play(self, move):
+        if len(self.cards) < model_reach(move):
+            return
+        getattr(self, "do_" + move[0])(*move[1:])
+
+    def do_swap(self, one, other):
+        first, second = self.at(one), self.at(other)
+        self.cards[first], self.cards[second] = self.cards[second], self.cards[first]
+
+    def do_carry(self, start, goal):
+        card = self.cards.pop(self.at(start))
+        end, depth = goal
+        # "bottom" counts the cards that lie below the one that is put back.
+        self.cards.insert(depth if end == "top" else len(self.cards) - depth, card)
+
+    def do_cut(self, count):
+        for step in range(count):
+            self.cards.append(self.cards.pop(0))
+        for step in range(-count):
+            self.cards.insert(0, self.cards.pop())
+
+    def do_turn(self, end, count):
+        block = []
+        for step in range(count):
+            block.append(self.cards.pop(0 if end == "top" else -1))
+        for card, turned in block:
+            if end == "top":
+                self.cards.insert(0, [card, not turned])
+            else:
+                self.cards.append([card, not turned])
+
+    def do_over(self):
+        self.do_turn("top", len(self.cards))
+
+    def do_face(self, place):
+        at = self.at(place)
+        self.cards[at][1] = not self.cards[at][1]
+
+    def images(self):
+        """The list of (place, turned), where each card lies now."""
+        images = [None] * len(self.cards)
+        for place, (card, turned) in enumerate(self.cards):
+            images[card] = (place, turned)
+        return images
+
+
+class RunPile:
+    """A pile of any size as runs (first card, step, count, turned), which moves cut and join."""
+
+    def __init__(self, size):
+        self.size = size
+        self.runs = [(0, 1, size, False)]
+
+    def split(self, count):
+        """The runs of the first count cards, and the others."""
+        above, below = [], []
+        for first, step, many, turned in self.runs:
+            taken = max(0, min(many, count))
+            count -= taken
+            above.append((first, step, taken, turned))
+            below.append((first + step * taken, step, many - taken, turned))
+        return [run for run in above if run[2]], [run for run in below if run[2]]
+
+    def at(self, end_place):
+        end, depth = end_place
+        return depth if end == "top" else self.size - depth - 1
+
+    def take(self, place):
+        """Take out one card, as a list of one run."""
+        above, rest = self.split(place)
+        self.runs = rest
+        card, below = self.split(1)
+        self.runs = above + below
+        return card
+
+    def put(self, card, place):
+        above, below = self.split(place)
+        self.runs = above + card + below
+
+    def play(self, move):
+        if self.size < model_reach(move):
+            return
+        name, *items = move
+        if name == "swap":
+            low, high = sorted(self.at(item) for item in items)
+            if low != high:
+                below, above = self.take(high), self.take(low)
+                self.put(below, low)
+                self.put(above, high)
+        elif name == "carry":
+            self.put(self.take(self.at(items[0])), self.at(items[1]))
+        elif name == "cut":
+            count = items[0] if items[0] >= 0 else self.size + items[0]
+            above, below = self.split(count)
+            self.runs = below + above
+        elif name == "turn":
+            above, below = self.split(items[1] if items[0] == "top" else self.size - items[1])
+            self.runs = turned_over(above) + below if items[0] == "top" else above + turned_over(below)
+        elif name == "over":
+            self.runs = turned_over(self.runs)
+        else:
+            at = self.at(items[0])
+            self.put(turned_over(self.take(at)), at)
+
+    def find(self, card):
+        """The pair (place, turned) of a card."""
+        above = 0
+        for first, step, many, turned in self.runs:
+            if 0 <= (card - first) * step < many:
+                return above + (card - first) * step, turned
+            above += many
+        raise AssertionError("the card is lost")
+
+
+def turned_over(runs):
+    return [(first + step * (many - 1), -step, many, not turned) for first, step, many, turned in reversed(runs)]
+
+
+def model_reach(move):
+    """The reach, as the greatest of all that the items of the move name."""
+    named = [0]
+    for item in move[1:]:
+        if isinstance(item, tuple):
+            named.append(item[1] + 1)
+        elif isinstance(item, int):
+            named.append(abs(item))
+    return max(named)
+
+
+def end_places(depths):
+    return [(end, depth) for end in ENDS for depth in depths]
+
+
+def moves_within(most):
+    """Every move whose reach is at most a small number."""
+    places = end_places(range(most))
+    moves = [("over",)]
+    moves += [(name, one, other) for name in ("swap", "carry") for one in places for other in places]
+    moves += [("cut", count) for count in range(-most, most + 1)]
+    moves += [("turn", end, count) for end in ENDS for count in range(most + 1)]
+    moves += [("face", place) for place in places]
+    return moves
+
+
+def drawn_move(draw, most):
+    """A move that is drawn by a seeded generator, with depths and blocks up to a bound."""
+    name = draw.choice(("swap", "carry", "cut", "turn", "over", "face"))
+    if name == "cut":
+        return (name, draw.randint(-most, most))
+    if name == "turn":
+        return (name, draw.choice(ENDS), draw.randint(0, most))
+    many = {"swap": 2, "carry": 2, "over": 0, "face": 1}[name]
+    return (name, *[(draw.choice(ENDS), draw.randint(0, most - 1)) for item in range(many)])

@@ -1,0 +1,147 @@
+"""Point 1: no clock, no random numbers, no files; and those language rules that a test can see."""
+
+import ast
+import builtins
+import pathlib
+import re
+import unittest
+
+FOLDER = pathlib.Path(__file__).resolve().parent.parent / "pileports"
+
+BUILTINS = set("""
+    len range enumerate zip min max sum abs sorted reversed int str bool list tuple dict set frozenset isinstance ord
+    repr any all divmod iter next Exception ValueError TypeError KeyError IndexError LookupError ZeroDivisionError
+    ArithmeticError OverflowError RuntimeError NotImplementedError AttributeError StopIteration NotImplemented
+    property staticmethod classmethod super
+""".split())
+
+STATEMENTS = (
+    ast.FunctionDef, ast.ClassDef, ast.Return, ast.Delete, ast.Assign, ast.AugAssign, ast.AnnAssign, ast.For, ast.While,
+    ast.If, ast.With, ast.Raise, ast.Try, ast.Assert, ast.ImportFrom, ast.Nonlocal, ast.Expr, ast.Pass, ast.Break,
+    ast.Continue, ast.Match,
+)
+
+BARRED_NAMES = set("""
+    register mro elements open input law version_info with_traceback add_note attrgetter breakpoint builtins compile
+    copyright credits delattr dir eval exec exit gc getattr globals hasattr help id importlib license locals
+    methodcaller os quit setattr type vars sys
+""".split())
+
+BARRED_WORDS = re.compile(
+    r"\b(type|typing|typing_extensions|enum|Enum|IntEnum|StrEnum|Flag|IntFlag|Generic|Protocol|ABC|ABCMeta|namedtuple"
+    r"|NamedTuple|TypedDict|TYPE_CHECKING|abstractmethod)\b|dataclass|overload|contextmanager")
+
+DOUBLE = set("""
+    __init__ __eq__ __repr__ __str__ __len__ __enter__ __exit__ __call__ __iter__ __add__ __mul__ __contains__
+""".split())
+
+
+def trees():
+    for path in sorted(FOLDER.glob("**/*.py")):
+        yield path.name, ast.parse(path.read_text(encoding="ascii"))
+
+
+def bound_names(tree):
+    """All names that a file gives a meaning, methods left out."""
+    methods = [part for node in ast.walk(tree) if isinstance(node, ast.ClassDef) for part in node.body]
+    for node in ast.walk(tree):
+        if isinstance(node, ast.Name) and isinstance(node.ctx, ast.Store):
+            yield node.id
+        elif isinstance(node, ast.arg):
+            yield node.arg
+        elif isinstance(node, (ast.FunctionDef, ast.ClassDef)) and node not in methods:
+            yield node.name
+        elif isinstance(node, ast.alias):
+            yield node.asname or node.name
+        elif isinstance(node, ast.ExceptHandler) and node.name:
+            yield node.name
+
+
+class LanguageTest(unittest.TestCase):
+    def test_files(self):
+        for path in FOLDER.glob("**/*"):
+            if "__pycache__" not in path.parts:
+                self.assertRegex(path.name, r"^[a-z0-9_]+\.py$")
+        self.assertTrue((FOLDER / "__init__.py").is_file())
+
+    def test_only_own_imports(self):
+        own = {"pileports." + path.stem for path in FOLDER.glob("*.py")}
+        for name, tree in trees():
+            for node in ast.walk(tree):
+                self.assertNotIsInstance(node, ast.Import, name)
+                if isinstance(node, ast.ImportFrom):
+                    self.assertEqual(node.level, 0, name)
+                    self.assertIn(node.module, own, name)
+                    self.assertNotIn("*", [alias.name for alias in node.names])
+
+    def test_imports_name_the_defining_file(self):
+        defined = {"pileports." + name[:-3]: {part.name for part in tree.body if hasattr(part, "name")}
+                   | {target.id for part in tree.body if isinstance(part, ast.Assign) for target in part.targets}
+                   for name, tree in trees()}
+        for name, tree in trees():
+            for node in ast.walk(tree):
+                if isinstance(node, ast.ImportFrom):
+                    for alias in node.names:
+                        self.assertIn(alias.name, defined[node.module], name)
+
+    def test_only_listed_builtins(self):
+        outside = set(dir(builtins)) - BUILTINS
+        for name, tree in trees():
+            own = set(bound_names(tree))
+            self.assertEqual(own & set(dir(builtins)), set(), name)
+            for node in ast.walk(tree):
+                if isinstance(node, ast.Name):
+                    self.assertNotIn(node.id, outside, name)
+
+    def test_names(self):
+        for name, tree in trees():
+            for bound in bound_names(tree):
+                self.assertFalse(bound.startswith("_"), (name, bound))
+                self.assertNotIn(bound, BARRED_NAMES, name)
+            for node in ast.walk(tree):
+                if isinstance(node, ast.Attribute):
+                    self.assertTrue(not node.attr.startswith("_") or node.attr in DOUBLE, (name, node.attr))
+
+    def test_statements(self):
+        for name, tree in trees():
+            for node in ast.walk(tree):
+                if isinstance(node, ast.stmt):
+                    self.assertIsInstance(node, STATEMENTS, (name, node.lineno))
+                self.assertNotIsInstance(node, ast.Div, name)
+                if isinstance(node, ast.Constant):
+                    self.assertNotIsInstance(node.value, (float, complex), name)
+                    if isinstance(node.value, str):
+                        self.assertNotIn("%", node.value, name)
+
+    def test_module_level(self):
+        kinds = (ast.ImportFrom, ast.FunctionDef, ast.ClassDef, ast.Assign, ast.Expr)
+        for name, tree in trees():
+            for at, part in enumerate(tree.body):
+                self.assertIsInstance(part, kinds, name)
+                if isinstance(part, ast.Expr):
+                    self.assertEqual(at, 0, name)
+            bound = [part.name for part in tree.body if hasattr(part, "name")]
+            for part in tree.body:
+                if isinstance(part, ast.Assign):
+                    bound += [target.id for target in part.targets]
+                if isinstance(part, ast.ImportFrom):
+                    bound += [alias.asname or alias.name for alias in part.names]
+            self.assertEqual(len(bound), len(set(bound)), name)
+
+    def test_sizes_and_characters(self):
+        for path in FOLDER.glob("**/*.py"):
+            text = path.read_text(encoding="utf-8")
+            lines = text.split("\n")
+            self.assertLessEqual(len(lines), 400, path.name)
+            self.assertTrue(text.endswith("\n"), path.name)
+            for line in lines:
+                self.assertLessEqual(len(line), 120, path.name)
+                self.assertRegex(line, r"^[ -~]*\Z", path.name)
+            self.assertIsNone(BARRED_WORDS.search(text), path.name)
+            for node in ast.walk(ast.parse(text)):
+                if isinstance(node, ast.FunctionDef):
+                    self.assertLessEqual(node.end_lineno - node.lineno + 1, 40, node.name)
+
+
+if __name__ == "__main__":
+    unittest.main()
