@@ -52,6 +52,11 @@ def check_move(move):
 def reach(move):
     """Return the number of cards that a pile needs for the move to change it."""
     check_move(move)
+    return cards_needed(move)
+
+
+def cards_needed(move):
+    """Return the reach of what is known to be a move."""
     name = move[0]
     if name == "over":
         return 0
@@ -120,66 +125,111 @@ def image(move, size, place):
     check_move(move)
     check_size(size)
     check_place(place, size)
-    if size < reach(move):
-        return (place, False)
-    action = IMAGES[move[0]]
-    return action(move, size, place)
+    return moved(move, size, place)
 
 
-def swap_image(move, size, place):
-    """Return the image of a place under a swap."""
-    one = resolve(move[1], size)
-    other = resolve(move[2], size)
-    if place == one:
-        return (other, False)
-    if place == other:
-        return (one, False)
-    return (place, False)
+def moved(move, size, place):
+    """Return the image of a place for a move, a size and a place that are known to be right."""
+    above = 0
+    for first, beyond, turned in blocks(move, size):
+        if first <= place < beyond:
+            break
+        above += beyond - first
+    if turned:
+        return (above + beyond - 1 - place, True)
+    return (above + place - first, False)
 
 
-def carry_image(move, size, place):
-    """Return the image of a place under a carry."""
+def all_images(moves, size):
+    """Return the list of the images of all places when moves are played one after another."""
+    cards = [(card, False) for card in range(size)]
+    for move in moves:
+        cards = laid_anew(move, cards)
+    images = list(cards)
+    for place, (card, turned) in enumerate(cards):
+        images[card] = (place, turned)
+    return images
+
+
+def laid_anew(move, cards):
+    """Return the cards of a pile, pairs (card, turned), in the order in which a move puts them."""
+    laid = []
+    for first, beyond, turned in blocks(move, len(cards)):
+        block = cards[first:beyond]
+        laid.extend(turned_over(block) if turned else block)
+    return laid
+
+
+def turned_over(cards):
+    """Return a block of cards, pairs (card, turned), as it lies when it is turned over."""
+    return [(card, not turned) for card, turned in reversed(cards)]
+
+
+def blocks(move, size):
+    """Return the blocks (first, beyond, turned) of a pile in the order in which a move puts them.
+
+    A block holds the places from first on that lie before beyond; some blocks are empty.
+    """
+    if size < cards_needed(move):
+        return [(0, size, False)]
+    action = BLOCKS[move[0]]
+    return action(move, size)
+
+
+def swap_blocks(move, size):
+    """Return the blocks of a swap."""
+    low, high = sorted([resolve(move[1], size), resolve(move[2], size)])
+    if low == high:
+        return [(0, size, False)]
+    return [
+        (0, low, False),
+        (high, high + 1, False),
+        (low + 1, high, False),
+        (low, low + 1, False),
+        (high + 1, size, False),
+    ]
+
+
+def carry_blocks(move, size):
+    """Return the blocks of a carry."""
     start = resolve(move[1], size)
     goal = resolve(move[2], size)
-    if place == start:
-        return (goal, False)
-    # Only the cards between the two places make room, by one place towards the start.
-    if start < place <= goal:
-        return (place - 1, False)
-    if goal <= place < start:
-        return (place + 1, False)
-    return (place, False)
+    card = (start, start + 1, False)
+    if start <= goal:
+        return [(0, start, False), (start + 1, goal + 1, False), card, (goal + 1, size, False)]
+    return [(0, goal, False), card, (goal, start, False), (start + 1, size, False)]
 
 
-def cut_image(move, size, place):
-    """Return the image of a place under a cut."""
-    return ((place - move[1]) % size, False)
+def cut_blocks(move, size):
+    """Return the blocks of a cut."""
+    above = move[1] if move[1] >= 0 else size + move[1]
+    return [(above, size, False), (0, above, False)]
 
 
-def turn_image(move, size, place):
-    """Return the image of a place under a turn."""
-    first = 0 if move[1] == "top" else size - move[2]
-    beyond = first + move[2]
-    if first <= place < beyond:
-        return (first + beyond - 1 - place, True)
-    return (place, False)
+def turn_blocks(move, size):
+    """Return the blocks of a turn."""
+    if move[1] == "top":
+        return [(0, move[2], True), (move[2], size, False)]
+    above = size - move[2]
+    return [(0, above, False), (above, size, True)]
 
 
-def over_image(move, size, place):
-    """Return the image of a place when the whole pile is turned over."""
-    return (size - 1 - place, True)
+def over_blocks(move, size):
+    """Return the block of a pile that is turned over as a whole."""
+    return [(0, size, True)]
 
 
-def face_image(move, size, place):
-    """Return the image of a place when one card is turned over where it lies."""
-    return (place, place == resolve(move[1], size))
+def face_blocks(move, size):
+    """Return the blocks of a card that is turned over where it lies."""
+    place = resolve(move[1], size)
+    return [(0, place, False), (place, place + 1, True), (place + 1, size, False)]
 
 
-IMAGES = {
-    "swap": swap_image,
-    "carry": carry_image,
-    "cut": cut_image,
-    "turn": turn_image,
-    "over": over_image,
-    "face": face_image,
+BLOCKS = {
+    "swap": swap_blocks,
+    "carry": carry_blocks,
+    "cut": cut_blocks,
+    "turn": turn_blocks,
+    "over": over_blocks,
+    "face": face_blocks,
 }

@@ -1,10 +1,11 @@
 """Places of a pile, and end places: places that are counted from the top or from the bottom."""
 
-from pileports.errors import BadPlace, BadSize, BadText, NoPlace
+from pileports.errors import BadPlace, BadSize, BadText, NoPlace, TooGreat
 from pileports.numbers import is_number, read_number
 
 MOST_DEPTH = 399
 MOST_CARDS = 10 ** 30
+MOST_LISTED = 1000
 
 ENDS = {"t": "top", "b": "bottom"}
 
@@ -21,10 +22,22 @@ def is_end_place(value):
     return is_end(value[0]) and is_number(value[1]) and value[1] >= 0
 
 
+def check_end_place(value):
+    """Raise BadPlace if a value is not an end place."""
+    if not is_end_place(value):
+        raise BadPlace(value)
+
+
 def check_size(size):
     """Raise BadSize if a pile cannot have this size."""
     if size < 0 or size > MOST_CARDS:
         raise BadSize(size)
+
+
+def check_listed(size):
+    """Raise TooGreat if a pile has more cards than are listed one by one."""
+    if size > MOST_LISTED:
+        raise TooGreat(MOST_LISTED)
 
 
 def check_place(place, size):
@@ -35,8 +48,7 @@ def check_place(place, size):
 
 def resolve(end_place, size):
     """Return the place of an end place in a pile."""
-    if not is_end_place(end_place):
-        raise BadPlace(end_place)
+    check_end_place(end_place)
     check_size(size)
     end, depth = end_place
     if depth >= size:
@@ -56,10 +68,9 @@ def read_end(text):
 
 def place_text(end_place):
     """Return the text of an end place."""
-    if not is_end_place(end_place):
-        raise BadPlace(end_place)
+    check_end_place(end_place)
     end, depth = end_place
-    return end_text(end) + str(depth)
+    return f"{end_text(end)}{depth}"
 
 
 def parse_place(text):

@@ -1,4 +1,4 @@
-"""Two models of a pile that play moves in other ways than the package does."""
+"""Models that play moves, and that follow forms, in other ways than the package does."""
 
 ENDS = ("top", "bottom")
 
@@ -166,3 +166,65 @@ def drawn_move(draw, most):
         return (name, draw.choice(ENDS), draw.randint(0, most))
     many = {"swap": 2, "carry": 2, "over": 0, "face": 1}[name]
     return (name, *[(draw.choice(ENDS), draw.randint(0, most - 1)) for item in range(many)])
+
+
+def moved_one_by_one(moves, size):
+    """The images of all places of a pile whose cards are moved one by one."""
+    cards = CardList(size)
+    for move in moves:
+        cards.play(move)
+    return cards.images()
+
+
+def drawn_moves(draw, most_moves, most_reach, most_depth):
+    """Drawn moves that make a word: as many as are drawn, and no more reach than is allowed."""
+    moves, left = [], most_reach
+    for trial in range(draw.randint(0, most_moves)):
+        move = drawn_move(draw, draw.randint(1, most_depth))
+        if model_reach(move) <= left:
+            moves.append(move)
+            left -= model_reach(move)
+    return moves
+
+
+def drawn_place(draw, size, near=450):
+    """A place near an end, or anywhere."""
+    depth = min(size - 1, draw.randint(0, near))
+    return draw.choice((depth, size - 1 - depth, draw.randrange(size)))
+
+
+def model_entry(parts, end_place):
+    """Where a form with the parts (turned, shift, top, bottom) sends an end place, as point 8 says it."""
+    turned, shift, top, bottom = parts
+    end, depth = end_place
+    if end == "top" and depth < len(top):
+        return top[depth]
+    if end == "bottom" and depth < len(bottom):
+        return bottom[depth]
+    if not turned:
+        return ("top", depth + shift, False) if end == "top" else ("bottom", depth - shift, False)
+    return ("bottom", depth - shift, True) if end == "top" else ("top", depth + shift, True)
+
+
+def is_model_form(parts, near, far):
+    """Whether parts with small tables send the end places one to one, as far as those up to a depth tell."""
+    goals = [model_entry(parts, place)[:2] for place in end_places(range(far))]
+    right = all(end in ENDS and depth >= 0 for end, depth in goals)
+    return right and len(set(goals)) == len(goals) and set(end_places(range(near))) <= set(goals)
+
+
+def model_parts(form):
+    return form.turned, form.shift, form.top(), form.bottom()
+
+
+def drawn_parts(draw, above, below):
+    """The parts of a drawn form whose tables are passed with so many entries; they may not be normal."""
+    turned = draw.random() < 0.5
+    shift = draw.randint(-below, above) if turned else draw.randint(-above, below)
+    # What the rules reach begins behind these depths, so the tables reach all that lies before them.
+    at_top = below + shift if turned else above + shift
+    at_bottom = above + below - at_top
+    goals = [("top", depth) for depth in range(at_top)] + [("bottom", depth) for depth in range(at_bottom)]
+    draw.shuffle(goals)
+    entries = [(end, depth, draw.random() < 0.5) for end, depth in goals]
+    return turned, shift, entries[:above], entries[above:]

@@ -5,17 +5,11 @@ import unittest
 
 from pileports.errors import BadMove, BadSize, NoPlace
 from pileports.moves import image, is_move, reach, undoing
-from tests.models import CardList, RunPile, drawn_move, moves_within
+from tests.models import RunPile, drawn_move, drawn_place, moved_one_by_one, moves_within
 
 
 def images(move, size):
     return [image(move, size, place) for place in range(size)]
-
-
-def drawn_place(draw, size):
-    """A place near an end, or anywhere."""
-    near = min(size - 1, draw.randint(0, 450))
-    return draw.choice((near, size - 1 - near, draw.randrange(size)))
 
 
 class SmallPilesTest(unittest.TestCase):
@@ -41,18 +35,14 @@ class SmallPilesTest(unittest.TestCase):
     def test_against_moved_cards(self):
         for move in moves_within(4):
             for size in range(10):
-                cards = CardList(size)
-                cards.play(move)
-                self.assertEqual(images(move, size), cards.images(), (move, size))
+                self.assertEqual(images(move, size), moved_one_by_one([move], size), (move, size))
 
     def test_drawn_moves_at_all_depths(self):
         draw = random.Random(4)
         for trial in range(150):
             move = drawn_move(draw, 400)
             size = draw.choice((reach(move), reach(move) + 1, draw.randint(0, 900)))
-            cards = CardList(size)
-            cards.play(move)
-            self.assertEqual(images(move, size), cards.images(), (move, size))
+            self.assertEqual(images(move, size), moved_one_by_one([move], size), (move, size))
 
     def test_kinds_of_values(self):
         for move in moves_within(2):

@@ -23,7 +23,60 @@ FUNCTIONS = {
         "parse_move": "(text)",
         "image": "(move, size, place)",
     },
+    "pileports.steady": {
+        "form_of": "(word)",
+        "steady_from": "(word)",
+    },
+    "pileports.alike": {
+        "alike_sizes": "(one, other)",
+        "first_difference": "(one, other, size)",
+    },
 }
+
+# What stands in the body of each class, as it is seen from an object where it is a plain method.
+CLASSES = {
+    ("pileports.words", "Word"): {
+        "__init__": "(self, *moves)",
+        "read": "(text)",
+        "moves": "(self)",
+        "undone": "(self)",
+        "image": "(self, size, place)",
+        "play": "(self, size)",
+        "__add__": "(self, other)",
+        "__len__": "(self)",
+        "__eq__": "(self, other)",
+        "__str__": "(self)",
+        "__repr__": "(self)",
+    },
+    ("pileports.forms", "Form"): {
+        "__init__": "(self, turned, shift, top, bottom)",
+        "still": "()",
+        "of": "(moves)",
+        "read": "(text)",
+        "top": "(self)",
+        "bottom": "(self)",
+        "__call__": "(self, end_place)",
+        "image": "(self, size, place)",
+        "listed": "(self, size)",
+        "__mul__": "(self, other)",
+        "inverse": "(self)",
+        "spelled": "(self)",
+        "__eq__": "(self, other)",
+        "__str__": "(self)",
+        "__repr__": "(self)",
+    },
+}
+
+PROPERTIES = {
+    ("pileports.words", "Word"): ("reach",),
+    ("pileports.forms", "Form"): ("turned", "shift", "least"),
+}
+
+CLASS_METHODS = {("pileports.words", "Word"): ("read",), ("pileports.forms", "Form"): ("of", "read")}
+
+
+def class_named(key):
+    return getattr(importlib.import_module(key[0]), key[1])
 
 
 class InterfaceTest(unittest.TestCase):
@@ -34,6 +87,27 @@ class InterfaceTest(unittest.TestCase):
                 function = getattr(module, name)
                 self.assertEqual(function.__module__, module_name)
                 self.assertEqual(str(inspect.signature(function)), parameters, name)
+
+    def test_classes(self):
+        for key, methods in CLASSES.items():
+            found = class_named(key)
+            self.assertEqual(found.__module__, key[0])
+            for name, parameters in methods.items():
+                self.assertIn(name, vars(found))
+                self.assertEqual(str(inspect.signature(getattr(found, name))), parameters, name)
+
+    def test_properties(self):
+        for key, names in PROPERTIES.items():
+            for name in names:
+                made = vars(class_named(key))[name]
+                self.assertIsInstance(made, property)
+                self.assertIsNone(made.fset)
+
+    def test_class_methods_and_static_methods(self):
+        for key, names in CLASS_METHODS.items():
+            for name in names:
+                self.assertIsInstance(vars(class_named(key))[name], classmethod)
+        self.assertIsInstance(vars(class_named(("pileports.forms", "Form")))["still"], staticmethod)
 
 
 if __name__ == "__main__":

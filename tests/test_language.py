@@ -35,6 +35,12 @@ DOUBLE = set("""
     __init__ __eq__ __repr__ __str__ __len__ __enter__ __exit__ __call__ __iter__ __add__ __mul__ __contains__
 """.split())
 
+VALUE_METHODS = set("""
+    append clear copy count endswith extend find get index insert isalnum isalpha isdigit islower isspace isupper items
+    join keys ljust lower lstrip partition pop remove replace reverse rfind rjust rpartition rsplit rstrip setdefault
+    split splitlines startswith strip update upper values zfill bit_length removeprefix removesuffix
+""".split())
+
 
 def trees():
     for path in sorted(FOLDER.glob("**/*.py")):
@@ -127,6 +133,76 @@ class LanguageTest(unittest.TestCase):
                 if isinstance(part, ast.ImportFrom):
                     bound += [alias.asname or alias.name for alias in part.names]
             self.assertEqual(len(bound), len(set(bound)), name)
+
+    def test_own_names_are_not_given_another_meaning(self):
+        for name, tree in trees():
+            taken = {node.name for node in ast.walk(tree) if isinstance(node, ast.ClassDef)}
+            taken |= {node.asname or node.name for node in ast.walk(tree) if isinstance(node, ast.alias)}
+            for node in ast.walk(tree):
+                if isinstance(node, ast.Name) and isinstance(node.ctx, ast.Store):
+                    self.assertNotIn(node.id, taken, (name, node.lineno))
+                elif isinstance(node, ast.arg):
+                    self.assertNotIn(node.arg, taken, (name, node.lineno))
+
+    def test_methods_and_attributes(self):
+        methods, stored, called = set(), set(), set()
+        for name, tree in trees():
+            for node in ast.walk(tree):
+                if isinstance(node, ast.ClassDef):
+                    parts = [part for part in node.body if isinstance(part, ast.FunctionDef)]
+                    self.assertEqual(len({part.name for part in parts}), len(parts), (name, node.name))
+                    methods |= {part.name for part in parts}
+                elif isinstance(node, ast.Attribute) and isinstance(node.ctx, ast.Store):
+                    stored.add(node.attr)
+                elif isinstance(node, ast.Call) and isinstance(node.func, ast.Attribute):
+                    called.add(node.func.attr)
+        self.assertEqual(methods & stored, set())
+        self.assertLessEqual(called - methods, VALUE_METHODS)
+        self.assertEqual((methods | stored) & (VALUE_METHODS - {"find", "get", "copy", "count", "index"}), set())
+
+    def test_decorators(self):
+        for name, tree in trees():
+            for node in ast.walk(tree):
+                if isinstance(node, ast.ClassDef):
+                    self.assertEqual(node.decorator_list, [], name)
+                elif isinstance(node, ast.FunctionDef):
+                    for mark in node.decorator_list:
+                        self.assertIn(mark.id, ("property", "classmethod", "staticmethod"), name)
+
+    def test_is_and_generators(self):
+        for name, tree in trees():
+            for node in ast.walk(tree):
+                if isinstance(node, ast.Compare):
+                    for sign, right in zip(node.ops, node.comparators):
+                        if isinstance(sign, (ast.Is, ast.IsNot)):
+                            self.assertIsInstance(right, ast.Constant, (name, node.lineno))
+                # A class with an operator or with its own == bars them from sum, any, all and the like.
+                self.assertNotIsInstance(node, ast.GeneratorExp, name)
+
+    def test_no_circles_of_imports(self):
+        needs = {"pileports." + name[:-3]: {node.module for node in ast.walk(tree) if isinstance(node, ast.ImportFrom)}
+                 for name, tree in trees()}
+        while needs:
+            free = [name for name, others in needs.items() if not others & set(needs)]
+            self.assertNotEqual(free, [], needs)
+            needs = {name: others for name, others in needs.items() if name not in free}
+
+    def test_operators_change_nothing_of_others(self):
+        # In the files that operators use, each list that is added to or taken from is made in that very function.
+        used = ("words.py", "forms.py", "tables.py", "moves.py", "places.py", "numbers.py")
+        for name, tree in trees():
+            for node in ast.walk(tree):
+                if isinstance(node, ast.FunctionDef) and name in used:
+                    made = {target.id for part in ast.walk(node) if isinstance(part, ast.Assign)
+                            and isinstance(part.value, (ast.List, ast.Dict, ast.ListComp, ast.Call))
+                            for target in part.targets if isinstance(target, ast.Name)}
+                    for part in ast.walk(node):
+                        if isinstance(part, ast.Attribute) and part.attr in ("append", "extend", "pop", "clear", "insert"):
+                            self.assertIn(part.value.id, made, (name, part.lineno))
+                        if isinstance(part, ast.Subscript) and isinstance(part.ctx, ast.Store):
+                            self.assertIn(part.value.id, made, (name, part.lineno))
+                        if isinstance(part, ast.Attribute) and isinstance(part.ctx, ast.Store):
+                            self.assertEqual((node.name, part.value.id), ("__init__", "self"), (name, part.lineno))
 
     def test_sizes_and_characters(self):
         for path in FOLDER.glob("**/*.py"):
