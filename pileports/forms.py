@@ -121,8 +121,8 @@ class Form:
         return " ".join([turned_text(turned), str(shift), *above, "|", *below])
 
     def __repr__(self):
-        turned, shift, top, bottom = self.parts
-        return f"Form({turned_text(turned)}, shift {shift}, {len(top) + len(bottom)} entries)"
+        # The least size is the number of the entries of both tables.
+        return f"Form({turned_text(self.turned)}, shift {self.shift}, {self.least} entries)"
 
 
 def turned_text(turned):

@@ -152,6 +152,20 @@ class EqualTest(unittest.TestCase):
         self.assertEqual(repr(Form(False, -2, [B1, B0], [B2])), "Form(still, shift -2, 2 entries)")
         self.assertEqual(repr(Form(False, 2, [FLIPPED], [T2, T1])), "Form(still, shift 2, 3 entries)")
 
+    def test_repr_counts_the_entries_of_both_tables(self):
+        for text, expected in (
+            ("still -1 t0>b1 | b0>b0", "Form(still, shift -1, 2 entries)"),
+            ("over 0 t0>b0 | b0>t0", "Form(over, shift 0, 2 entries)"),
+            ("still 0 t0>t1 t1>t0 | b0>b0!", "Form(still, shift 0, 3 entries)"),
+            ("over 1 t0>t0 |", "Form(over, shift 1, 1 entries)"),
+            ("still 2 | b0>t1 b1>t0", "Form(still, shift 2, 2 entries)"),
+            ("over 0 |", "Form(over, shift 0, 0 entries)"),
+            ("still 0 |", "Form(still, shift 0, 0 entries)"),
+        ):
+            form = Form.read(text)
+            self.assertEqual(repr(form), expected)
+            self.assertEqual(len(form.top()) + len(form.bottom()), int(expected.split()[-2]))
+
 
 class SentTest(unittest.TestCase):
     def test_named_by_hand(self):

@@ -47,6 +47,30 @@ def trees():
         yield path.name, ast.parse(path.read_text(encoding="ascii"))
 
 
+def is_plainly_text(node):
+    """Whether an expression is a string, as the code shows: a written text, an f-string, str(..), repr(..), a join."""
+    if isinstance(node, ast.Constant):
+        return isinstance(node.value, str)
+    if isinstance(node, ast.Call):
+        if isinstance(node.func, ast.Attribute):
+            return node.func.attr == "join" and isinstance(node.func.value, ast.Constant)
+        return isinstance(node.func, ast.Name) and node.func.id in ("str", "repr")
+    if isinstance(node, ast.BinOp) and isinstance(node.op, ast.Add):
+        return is_plainly_text(node.left) and is_plainly_text(node.right)
+    return isinstance(node, ast.JoinedStr)
+
+
+def bare_sums(tree):
+    """The lines of a file where a + in __str__ or __repr__ stands between other things than texts."""
+    for node in ast.walk(tree):
+        if isinstance(node, ast.FunctionDef) and node.name in ("__str__", "__repr__"):
+            for part in ast.walk(node):
+                if isinstance(part, ast.BinOp) and isinstance(part.op, ast.Add) and not is_plainly_text(part):
+                    yield part.lineno
+                elif isinstance(part, ast.AugAssign) and not is_plainly_text(part.value):
+                    yield part.lineno
+
+
 def bound_names(tree):
     """All names that a file gives a meaning, methods left out."""
     methods = [part for node in ast.walk(tree) if isinstance(node, ast.ClassDef) for part in node.body]
@@ -178,6 +202,22 @@ class LanguageTest(unittest.TestCase):
                             self.assertIsInstance(right, ast.Constant, (name, node.lineno))
                 # A class with an operator or with its own == bars them from sum, any, all and the like.
                 self.assertNotIsInstance(node, ast.GeneratorExp, name)
+
+    def test_sums_in_texts_of_objects(self):
+        for name, tree in trees():
+            self.assertEqual(list(bare_sums(tree)), [], name)
+
+    def test_that_such_sums_are_seen(self):
+        for told, seen in (
+            ('return f"{len(a) + len(b)} entries"', True),
+            ("return str(a + b)", True),
+            ('return "a" + b', True),
+            ('return "a" + str(self.n) + f"{self.n}"', False),
+            ('return ", ".join(a) + "b" + repr(b)', False),
+            ('return f"{self.n} entries"', False),
+        ):
+            tree = ast.parse("class Box:\n    def __repr__(self):\n        " + told)
+            self.assertEqual(list(bare_sums(tree)) != [], seen, told)
 
     def test_no_circles_of_imports(self):
         needs = {"pileports." + name[:-3]: {node.module for node in ast.walk(tree) if isinstance(node, ast.ImportFrom)}
