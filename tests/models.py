@@ -1,5 +1,8 @@
 """Models that play moves, and that follow forms, in other ways than the package does."""
 
+import itertools
+import math
+
 ENDS = ("top", "bottom")
 
 
@@ -228,3 +231,74 @@ def drawn_parts(draw, above, below):
     draw.shuffle(goals)
     entries = [(end, depth, draw.random() < 0.5) for end, depth in goals]
     return turned, shift, entries[:above], entries[above:]
+
+
+def model_way(images, place):
+    """The pairs (place, turned on leaving it) of the way of a place, by the images of all places."""
+    way = [(place, images[place][1])]
+    while images[way[-1][0]][0] != place:
+        here = images[way[-1][0]][0]
+        way.append((here, images[here][1]))
+    return way
+
+
+def model_length(way):
+    """The pair (length, turned) of the pairs that model_way returns."""
+    return len(way), sum(turned for place, turned in way) % 2 == 1
+
+
+def model_census(images):
+    """The ascending triples (length, turned, number of such ways)."""
+    counted, seen = {}, set()
+    for place in range(len(images)):
+        if place not in seen:
+            way = model_way(images, place)
+            seen |= {here for here, turned in way}
+            counted[model_length(way)] = counted.get(model_length(way), 0) + 1
+    return sorted((length, turned, many) for (length, turned), many in counted.items())
+
+
+def model_order(images):
+    """The order, by the census."""
+    return math.lcm(*[length * (2 if turned else 1) for length, turned, many in model_census(images)])
+
+
+def model_even(images):
+    """Whether an even number of pairs of places is put the other way round."""
+    goals = [place for place, turned in images]
+    return sum(one > other for one, other in itertools.combinations(goals, 2)) % 2 == 0
+
+
+def one_round(states, images):
+    """The pairs (place, turned) of all cards, one more round later."""
+    return [(images[place][0], turned != images[place][1]) for place, turned in states]
+
+
+def all_back(images):
+    """The images of all places under the word that undoes one with these images."""
+    back = [None] * len(images)
+    for place, (goal, turned) in enumerate(images):
+        back[goal] = (place, turned)
+    return back
+
+
+NAMED_WORDS = (
+    "", "over", "cut 1", "cut -1", "cut 2", "cut -3", "cut 0", "face t0", "face b1", "swap t0 b0", "swap t0 t0", "swap t1 b2",
+    "carry t0 b0", "carry t0 b1", "carry b2 t1", "turn t 3", "turn b 2", "turn t 0", "over; face t0", "over; cut 1",
+    "over; cut -2", "cut 1; over", "cut 3; over; cut 1", "cut 2; face t0", "cut 1; face b0", "turn t 2; cut 1",
+    "cut 2; cut -1; turn b 3", "swap t0 b3; cut -2; face t1", "cut 4; swap t0 t3", "over; swap t0 t2; face b1",
+    "over; cut 3; turn t 2", "carry t3 b0; carry b1 t2", "turn t 4; turn b 4", "cut -4; carry t2 b2",
+)
+
+GREAT_REACH = (
+    "cut 57; swap t1 b0; face t0", "cut -57; swap b1 t0; face b0", "cut 60", "cut -60", "turn t 60", "turn b 59; face t0",
+    "over; cut 60", "cut 31; over; cut -29", "swap t59 b59", "carry t0 b59", "carry t29 b29; cut 30", "cut 30; face t29",
+    "cut 20; turn t 40", "over; turn t 30; cut 30", "cut 7; turn b 50; swap t0 b2", "cut 36; cut -24",
+)
+
+# Moves that are many, and shifted by one or by few.
+MANY_MOVES = (
+    "; ".join(["cut 1", "face t0"] * 20), "; ".join(["over"] * 39 + ["cut 60"]), "; ".join(["carry t0 b0"] * 40),
+    "; ".join(["swap t0 b0", "cut 1", "face b0", "over"] * 10), "; ".join(["turn t 2", "turn b 1"] * 20),
+    "; ".join(["cut 2", "cut -1"] * 20), "; ".join(["over", "cut 1"] * 20), "; ".join(["over", "cut 3"] * 19 + ["over"]),
+)

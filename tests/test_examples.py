@@ -6,7 +6,11 @@ from pileports.alike import alike_sizes, first_difference
 from pileports.errors import BadText, TooLong
 from pileports.forms import Form
 from pileports.numbers import common_rounds
+from pileports.rounds import after
 from pileports.steady import form_of, steady_from
+from pileports.ways import census, way_length
+from pileports.wires import families, steady_order
+from pileports.wishes import meeting, wish
 from pileports.words import Word
 from tests.helpers import raised
 
@@ -27,6 +31,22 @@ class ExamplesTest(unittest.TestCase):
     def test_alike(self):
         self.assertEqual(alike_sizes(Word.read('swap t0 b2'), Word()), ('only', [0, 1, 2, 3]))
         self.assertEqual(first_difference(Word.read('face b0'), Word(), 4), (3, (3, True), (3, False)))
+
+    def test_ways(self):
+        self.assertEqual(way_length(Word.read('cut 1'), 10 ** 30, 0), (1000000000000000000000000000000, False))
+        self.assertEqual(census(Word.read('over'), 5), [(1, True, 1), (2, False, 2)])
+
+    def test_wires(self):
+        self.assertEqual(families(Word.read('cut -2')), [[(1, 1, False), (1, 1, False)], [(3, 2, False)]])
+        self.assertEqual(steady_order(Word.read('over; face t0')), 4)
+
+    def test_rounds(self):
+        self.assertEqual(after(Word.read('cut 1'), 10 ** 30, 5, 10 ** 29), (900000000000000000000000000005, False))
+
+    def test_wishes(self):
+        self.assertEqual(meeting(Word.read('cut -1'), 7, 2, 0), (5, 7))
+        self.assertEqual(wish(Word.read('cut -2'), 4, [(0, 2, None), (1, 3, None)]), ('rounds', 1))
+        self.assertEqual(wish(Word.read('cut -1'), 7, [(0, 3, None), (1, 5, None)]), ('clash', 0, 1))
 
     def test_numbers(self):
         self.assertEqual(common_rounds([(1, 4), (3, 6)]), (9, 12))

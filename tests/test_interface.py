@@ -31,6 +31,26 @@ FUNCTIONS = {
         "alike_sizes": "(one, other)",
         "first_difference": "(one, other, size)",
     },
+    "pileports.ways": {
+        "way": "(word, size, place)",
+        "way_length": "(word, size, place)",
+        "walk": "(word, size, place, *, many=10)",
+        "census": "(word, size)",
+        "order": "(word, size)",
+        "is_even": "(word, size)",
+    },
+    "pileports.wires": {
+        "families": "(word)",
+        "steady_order": "(word)",
+    },
+    "pileports.rounds": {
+        "after": "(word, size, place, rounds)",
+        "through": "(plays, size, place)",
+    },
+    "pileports.wishes": {
+        "meeting": "(word, size, place, goal, *, turned=None)",
+        "wish": "(word, size, wants)",
+    },
 }
 
 # What stands in the body of each class, as it is seen from an object where it is a plain method.
@@ -75,6 +95,15 @@ PROPERTIES = {
 CLASS_METHODS = {("pileports.words", "Word"): ("read",), ("pileports.forms", "Form"): ("of", "read")}
 
 
+VALUES = {
+    "pileports.places": {"MOST_DEPTH": 399, "MOST_CARDS": 10 ** 30},
+    "pileports.moves": {"MOST_BLOCK": 400},
+    "pileports.rounds": {"MOST_ROUNDS": 10 ** 30},
+}
+
+GENERATORS = {("pileports.ways", "walk")}
+
+
 def class_named(key):
     return getattr(importlib.import_module(key[0]), key[1])
 
@@ -87,6 +116,12 @@ class InterfaceTest(unittest.TestCase):
                 function = getattr(module, name)
                 self.assertEqual(function.__module__, module_name)
                 self.assertEqual(str(inspect.signature(function)), parameters, name)
+                self.assertEqual(inspect.isgeneratorfunction(function), (module_name, name) in GENERATORS)
+
+    def test_values(self):
+        for module_name, values in VALUES.items():
+            for name, value in values.items():
+                self.assertEqual(getattr(importlib.import_module(module_name), name), value)
 
     def test_classes(self):
         for key, methods in CLASSES.items():
