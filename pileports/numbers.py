@@ -10,11 +10,11 @@ def is_number(value):
     return isinstance(value, int) and not isinstance(value, bool)
 
 
-def read_number(text):
-    """Return the number that a text writes in decimal, or None for any other text."""
+def read_number(text, most_digits=MOST_DIGITS):
+    """Return the number that a text writes in decimal, with at most so many digits, or None for any other text."""
     digits = text[1:] if text.startswith("-") else text
     # Python refuses to convert very long texts, so the length is tested before int is called.
-    if len(digits) == 0 or len(digits) > MOST_DIGITS:
+    if len(digits) == 0 or len(digits) > most_digits:
         return None
     for digit in digits:
         if digit not in "0123456789":

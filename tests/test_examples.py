@@ -1,11 +1,15 @@
-"""The sessions under "Examples" of the document, as far as what they import has been built."""
+"""The sessions under "Examples" of the document."""
 
 import unittest
 
 from pileports.alike import alike_sizes, first_difference
+from pileports.console import Console
 from pileports.errors import BadText, TooLong
 from pileports.forms import Form
 from pileports.numbers import common_rounds
+from pileports.pages import write_page
+from pileports.piles import MarkedPile
+from pileports.rooms import Room
 from pileports.rounds import after
 from pileports.steady import form_of, steady_from
 from pileports.ways import census, way_length
@@ -47,6 +51,30 @@ class ExamplesTest(unittest.TestCase):
         self.assertEqual(meeting(Word.read('cut -1'), 7, 2, 0), (5, 7))
         self.assertEqual(wish(Word.read('cut -2'), 4, [(0, 2, None), (1, 3, None)]), ('rounds', 1))
         self.assertEqual(wish(Word.read('cut -1'), 7, [(0, 3, None), (1, 5, None)]), ('clash', 0, 1))
+
+    def test_piles(self):
+        pile = MarkedPile(10 ** 30)
+        pile.mark('ace', 0)
+        pile.play(Word.read('cut 1'), rounds=10)
+        self.assertEqual(pile.marks(), {'ace': 999999999999999999999999999990})
+
+    def test_rooms(self):
+        room = Room()
+        first = room.apply_all([('word', 'a', 'cut 1'), ('word', 'b', 'carry t0 b0'), ('watch', 'a', 'b')])
+        second = room.apply(('word', 'b', 'cut 2'))
+        self.assertEqual([first, second], [[(1, True)], [(1, False)]])
+
+    def test_pages(self):
+        room = Room()
+        news = room.apply_all([('word', 'a', 'cut 1'), ('pile', 'p', 3), ('mark', 'p', 'm', 0), ('play', 'p', 'a', 2)])
+        self.assertEqual(news, [])
+        self.assertEqual(write_page(room), 'word a cut 1\npile p 3\nplay 2 cut 1\nmark m 0\nnext 1\n')
+
+    def test_console(self):
+        console = Console()
+        first = console.run('word a cut 1')
+        self.assertEqual([first, console.run('order a 12'), console.run('show b'), console.run('show')],
+                         ['ok', '12', 'error NoWord', 'invalid'])
 
     def test_numbers(self):
         self.assertEqual(common_rounds([(1, 4), (3, 6)]), (9, 12))

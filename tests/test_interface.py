@@ -51,6 +51,10 @@ FUNCTIONS = {
         "meeting": "(word, size, place, goal, *, turned=None)",
         "wish": "(word, size, wants)",
     },
+    "pileports.pages": {
+        "write_page": "(room)",
+        "read_page": "(text)",
+    },
 }
 
 # What stands in the body of each class, as it is seen from an object where it is a plain method.
@@ -85,11 +89,74 @@ CLASSES = {
         "__str__": "(self)",
         "__repr__": "(self)",
     },
+    ("pileports.piles", "Pile"): {
+        "__init__": "(self, size)",
+        "play": "(self, word, *, rounds=1)",
+        "plays": "(self)",
+        "now": "(self, place)",
+        "start": "(self, place)",
+        "undo": "(self)",
+        "redo": "(self)",
+        "history": "(self)",
+        "twin": "(self)",
+        "__eq__": "(self, other)",
+        "__len__": "(self)",
+        "__repr__": "(self)",
+    },
+    ("pileports.piles", "MarkedPile"): {
+        "__init__": "(self, size)",
+        "mark": "(self, name, place)",
+        "unmark": "(self, name)",
+        "marks": "(self)",
+        "find": "(self, name)",
+        "twin": "(self)",
+        "__eq__": "(self, other)",
+        "__repr__": "(self)",
+    },
+    ("pileports.rooms", "Room"): {
+        "__init__": "(self)",
+        "apply": "(self, deed)",
+        "apply_all": "(self, deeds)",
+        "trial": "(self, deeds)",
+        "undo": "(self)",
+        "redo": "(self)",
+        "history": "(self)",
+        "set_capacity": "(self, value)",
+        "words": "(self)",
+        "piles": "(self)",
+        "get": "(self, name)",
+        "pile": "(self, name)",
+        "watches": "(self)",
+        "coming": "(self)",
+        "twin": "(self)",
+        "__eq__": "(self, other)",
+        "__len__": "(self)",
+        "__contains__": "(self, name)",
+        "__repr__": "(self)",
+        "table": "(self)",
+    },
+    ("pileports.console", "Console"): {
+        "__init__": "(self, *, room=None)",
+        "run": "(self, line)",
+        "room": "(self)",
+        "log": "(self)",
+        "__len__": "(self)",
+    },
 }
 
 PROPERTIES = {
     ("pileports.words", "Word"): ("reach",),
     ("pileports.forms", "Form"): ("turned", "shift", "least"),
+    ("pileports.piles", "Pile"): ("cards",),
+    ("pileports.rooms", "Room"): ("busy", "capacity"),
+}
+
+CLASS_VALUES = {
+    ("pileports.words", "Word"): {"MOST_MOVES": 40, "MOST_REACH": 60},
+    ("pileports.forms", "Form"): {"WIDEST": 400},
+    ("pileports.piles", "Pile"): {"MOST_PLAYS": 60},
+    ("pileports.piles", "MarkedPile"): {"MOST_MARKS": 12},
+    ("pileports.rooms", "Room"): {"MOST_WORDS": 12, "MOST_PILES": 6, "MOST_WATCHES": 6},
 }
 
 CLASS_METHODS = {("pileports.words", "Word"): ("read",), ("pileports.forms", "Form"): ("of", "read")}
@@ -101,6 +168,9 @@ VALUES = {
     "pileports.rounds": {"MOST_ROUNDS": 10 ** 30},
 }
 
+# Every listed function stands in its module under a heading of the document, and each of these modules is there.
+MODULES = """errors numbers places moves words forms steady alike ways wires rounds wishes piles rooms pages console""".split()
+
 GENERATORS = {("pileports.ways", "walk")}
 
 
@@ -109,6 +179,12 @@ def class_named(key):
 
 
 class InterfaceTest(unittest.TestCase):
+    def test_modules(self):
+        named = {key for key in FUNCTIONS} | {key[0] for key in CLASSES} | {"pileports.errors"}
+        self.assertEqual(named, {"pileports." + name for name in MODULES})
+        for name in named:
+            importlib.import_module(name)
+
     def test_functions(self):
         for module_name, functions in FUNCTIONS.items():
             module = importlib.import_module(module_name)
@@ -136,7 +212,17 @@ class InterfaceTest(unittest.TestCase):
             for name in names:
                 made = vars(class_named(key))[name]
                 self.assertIsInstance(made, property)
-                self.assertIsNone(made.fset)
+                self.assertEqual(made.fset is not None, name == "capacity")
+
+    def test_class_values(self):
+        for key, values in CLASS_VALUES.items():
+            for name, value in values.items():
+                self.assertEqual(vars(class_named(key))[name], value)
+
+    def test_base_classes(self):
+        pile = class_named(("pileports.piles", "Pile"))
+        self.assertEqual(class_named(("pileports.piles", "MarkedPile")).__bases__, (pile,))
+        self.assertEqual(class_named(("pileports.piles", "MarkedPile")).MOST_PLAYS, 60)
 
     def test_class_methods_and_static_methods(self):
         for key, names in CLASS_METHODS.items():

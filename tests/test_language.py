@@ -71,6 +71,21 @@ def bare_sums(tree):
                     yield part.lineno
 
 
+def is_setter(node):
+    """Whether a method is the setter of a property."""
+    return [mark.attr for mark in node.decorator_list if isinstance(mark, ast.Attribute)] == ["setter"]
+
+
+def parents(tree):
+    """The dict from each node of a file to the node that holds it."""
+    return {part: node for node in ast.walk(tree) for part in ast.iter_child_nodes(node)}
+
+
+def called_name(node):
+    """The name of what is called, of a function or of a method."""
+    return node.func.id if isinstance(node.func, ast.Name) else getattr(node.func, "attr", None)
+
+
 def bound_names(tree):
     """All names that a file gives a meaning, methods left out."""
     methods = [part for node in ast.walk(tree) if isinstance(node, ast.ClassDef) for part in node.body]
@@ -169,18 +184,21 @@ class LanguageTest(unittest.TestCase):
                     self.assertNotIn(node.arg, taken, (name, node.lineno))
 
     def test_methods_and_attributes(self):
-        methods, stored, called = set(), set(), set()
+        methods, stored, called, setters = set(), set(), set(), set()
         for name, tree in trees():
             for node in ast.walk(tree):
                 if isinstance(node, ast.ClassDef):
                     parts = [part for part in node.body if isinstance(part, ast.FunctionDef)]
-                    self.assertEqual(len({part.name for part in parts}), len(parts), (name, node.name))
-                    methods |= {part.name for part in parts}
+                    # A property and its setter are one.
+                    made = [part.name for part in parts if not is_setter(part)]
+                    self.assertEqual(len(set(made)), len(made), (name, node.name))
+                    methods |= set(made)
+                    setters |= {part.name for part in parts if is_setter(part)}
                 elif isinstance(node, ast.Attribute) and isinstance(node.ctx, ast.Store):
                     stored.add(node.attr)
                 elif isinstance(node, ast.Call) and isinstance(node.func, ast.Attribute):
                     called.add(node.func.attr)
-        self.assertEqual(methods & stored, set())
+        self.assertEqual(methods & stored - setters, set())
         self.assertLessEqual(called - methods, VALUE_METHODS)
         self.assertEqual((methods | stored) & (VALUE_METHODS - {"find", "get", "copy", "count", "index"}), set())
 
@@ -190,8 +208,12 @@ class LanguageTest(unittest.TestCase):
                 if isinstance(node, ast.ClassDef):
                     self.assertEqual(node.decorator_list, [], name)
                 elif isinstance(node, ast.FunctionDef):
+                    self.assertLessEqual(len(node.decorator_list), 1, name)
                     for mark in node.decorator_list:
-                        self.assertIn(mark.id, ("property", "classmethod", "staticmethod"), name)
+                        if is_setter(node):
+                            self.assertEqual(mark.value.id, node.name, name)
+                        else:
+                            self.assertIn(mark.id, ("property", "classmethod", "staticmethod"), name)
 
     def test_is_and_generators(self):
         for name, tree in trees():
@@ -219,6 +241,109 @@ class LanguageTest(unittest.TestCase):
             tree = ast.parse("class Box:\n    def __repr__(self):\n        " + told)
             self.assertEqual(list(bare_sums(tree)) != [], seen, told)
 
+    def test_stars(self):
+        # In lists, tuples and calls, only names, attributes and literals stand behind a star.
+        for name, tree in trees():
+            for node in ast.walk(tree):
+                if isinstance(node, ast.Starred) and isinstance(node.ctx, ast.Load):
+                    self.assertIsInstance(node.value, (ast.Name, ast.Attribute, ast.List, ast.Tuple), (name, node.lineno))
+
+    def test_iterated_at_once(self):
+        views = ("zip", "enumerate", "reversed", "range", "items", "keys", "values")
+        takers = ("list", "tuple", "dict", "sorted", "sum", "any", "all", "enumerate", "zip", "min", "max", "join")
+        for name, tree in trees():
+            held = parents(tree)
+            for node in ast.walk(tree):
+                if isinstance(node, ast.Call) and called_name(node) in views:
+                    holder = held[node]
+                    at_once = isinstance(holder, (ast.For, ast.comprehension)) and holder.iter is node
+                    taken = isinstance(holder, ast.Call) and called_name(holder) in takers and holder.args[0] is node
+                    self.assertTrue(at_once or taken, (name, node.lineno))
+
+    def test_generators(self):
+        found = []
+        for name, tree in trees():
+            for node in ast.walk(tree):
+                if isinstance(node, ast.FunctionDef) and any(isinstance(part, ast.Yield) for part in ast.walk(node)):
+                    found.append(node.name)
+        for name, tree in trees():
+            for bound in bound_names(tree):
+                self.assertTrue(bound not in found or name == "ways.py", (name, bound))
+            for node in ast.walk(tree):
+                if isinstance(node, ast.FunctionDef) and node.name in found:
+                    self.assertEqual(name, "ways.py")
+                self.assertFalse(isinstance(node, ast.Name) and node.id in found, name)
+
+    def test_finally_and_handlers(self):
+        for name, tree in trees():
+            for node in ast.walk(tree):
+                if isinstance(node, ast.Try):
+                    for part in node.finalbody:
+                        self.assertIsInstance(part, ast.Assign, (name, part.lineno))
+                        self.assertIsInstance(part.value, (ast.Constant, ast.Name, ast.Attribute), (name, part.lineno))
+                if isinstance(node, ast.ExceptHandler):
+                    kinds = node.type.elts if isinstance(node.type, ast.Tuple) else [node.type]
+                    own = [part.name for other, tree in trees() if other == "errors.py" for part in tree.body
+                           if isinstance(part, ast.ClassDef)]
+                    for kind in kinds:
+                        self.assertIn(kind.id, own, (name, node.lineno))
+
+    def test_tables_are_only_read(self):
+        for name, tree in trees():
+            tables = {target.id for part in tree.body if isinstance(part, ast.Assign) for target in part.targets
+                      if isinstance(part.value, (ast.Dict, ast.List))}
+            tables |= {alias.asname or alias.name for part in tree.body if isinstance(part, ast.ImportFrom)
+                       for alias in part.names if alias.name.isupper()}
+            held = parents(tree)
+            for node in ast.walk(tree):
+                if isinstance(node, ast.Name) and node.id in tables and isinstance(node.ctx, ast.Load):
+                    holder = held[node]
+                    if isinstance(holder, ast.Subscript):
+                        self.assertIsInstance(holder.ctx, ast.Load, (name, node.lineno))
+                        # A function of a table is given a name before it is called.
+                        self.assertFalse(isinstance(held[holder], ast.Call) and held[holder].func is holder)
+                    elif isinstance(holder, ast.Attribute):
+                        self.assertEqual(holder.attr, "get", (name, node.lineno))
+
+    def test_what_is_asked_changes_nothing(self):
+        changing = ("append", "clear", "extend", "insert", "pop", "remove", "reverse", "setdefault", "update", "add", "discard",
+                    "sort", "take", "back", "forth")
+        for name, tree in trees():
+            for node in ast.walk(tree):
+                if isinstance(node, ast.FunctionDef) and not is_setter(node) and (
+                        node.name in DOUBLE - {"__init__"} or [getattr(mark, "id", "") for mark in node.decorator_list] == ["property"]):
+                    for part in ast.walk(node):
+                        self.assertFalse(isinstance(part, (ast.Attribute, ast.Subscript)) and isinstance(part.ctx, ast.Store))
+                        self.assertFalse(isinstance(part, ast.Attribute) and part.attr in changing, (name, part))
+                        self.assertNotIsInstance(part, (ast.Delete, ast.Nonlocal, ast.AugAssign), name)
+
+    def test_ends_of_texts_and_lengths(self):
+        for name, tree in trees():
+            for node in ast.walk(tree):
+                if isinstance(node, ast.FunctionDef) and node.name in ("__len__", "__str__", "__repr__"):
+                    self.assertIsInstance(node.body[-1], ast.Return, name)
+                    for part in ast.walk(node):
+                        if isinstance(part, ast.Return) and node.name == "__len__":
+                            self.assertEqual(called_name(part.value), "len", name)
+                        elif isinstance(part, ast.Return):
+                            self.assertTrue(is_plainly_text(part.value), name)
+
+    def test_attributes_that_are_read_are_assigned(self):
+        stored, methods = set(), set()
+        for name, tree in trees():
+            for node in ast.walk(tree):
+                if isinstance(node, ast.Attribute) and isinstance(node.ctx, ast.Store):
+                    stored.add(node.attr)
+                if isinstance(node, ast.ClassDef):
+                    methods |= {part.name for part in node.body if isinstance(part, ast.FunctionDef)}
+                    methods |= {part.targets[0].id for part in node.body if isinstance(part, ast.Assign)}
+        for name, tree in trees():
+            held = parents(tree)
+            for node in ast.walk(tree):
+                if isinstance(node, ast.Attribute) and isinstance(node.ctx, ast.Load) and node.attr not in stored | methods:
+                    self.assertTrue(isinstance(held[node], ast.Call) and node.attr in VALUE_METHODS or node.attr == "setter",
+                                    (name, node.attr))
+
     def test_no_circles_of_imports(self):
         needs = {"pileports." + name[:-3]: {node.module for node in ast.walk(tree) if isinstance(node, ast.ImportFrom)}
                  for name, tree in trees()}
@@ -228,7 +353,8 @@ class LanguageTest(unittest.TestCase):
             needs = {name: others for name, others in needs.items() if name not in free}
 
     def test_operators_change_nothing_of_others(self):
-        # In the files that operators use, each list that is added to or taken from is made in that very function.
+        # In the files that operators with work of their own use, each list that is added to or taken from is made in
+        # that very function.
         used = ("words.py", "forms.py", "tables.py", "moves.py", "places.py", "numbers.py")
         for name, tree in trees():
             for node in ast.walk(tree):
