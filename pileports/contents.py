@@ -53,8 +53,10 @@ class Contents:
         return [(number, holds) for number, holds in self.truths().items() if earlier.get(number) != holds]
 
     def __eq__(self, other):
-        if not isinstance(other, Contents):
-            return False
-        if self.named_words != other.named_words or self.named_piles != other.named_piles:
-            return False
-        return self.numbered == other.numbered and self.upcoming == other.upcoming
+        return (
+            isinstance(other, Contents)
+            and self.named_words == other.named_words
+            and self.named_piles == other.named_piles
+            and self.numbered == other.numbered
+            and self.upcoming == other.upcoming
+        )

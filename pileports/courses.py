@@ -98,7 +98,8 @@ def place_through(plays, size, place):
 def closed_ends(course):
     """Return the pair (above, below): so many places of both ends keep all their ways among themselves.
 
-    Only the ways of a form that is shifted, but not turned, leave the ends; they come back to the tables.
+    Only the ways of a form that is shifted, but not turned, leave the ends; they come back to the tables. In a course
+    there are never more such places than cards: neither number is greater than the reach of the word.
     """
     turned, shift, top, bottom = course
     if not turned:
@@ -111,8 +112,6 @@ def closed_ends(course):
 def counted_ways(course, size):
     """Return the dict from the pairs (length, turned) to the numbers of such ways."""
     above, below = closed_ends(course)
-    if above + below >= size:
-        above, below = size, 0
     counted = middle_ways(course, size - above - below)
     for pieces in ways_of(course, size, above, below):
         kind = sum_of(pieces)

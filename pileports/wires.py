@@ -34,8 +34,6 @@ def steady_order(word):
     form = form_of(word)
     if not form.turned and form.shift != 0:
         raise Shifted()
-    above, below = closed_ends(form.parts)
-    # From this size on all piles have the same ways at their ends, and one more card makes the middle odd or even.
-    first = max(2 * word.reach, above + below)
-    orders = [order(word, size) for size in range(first + 2)]
+    # From twice the reach on, the ways at the ends are the same, and one more card makes the middle odd or even.
+    orders = [order(word, size) for size in range(2 * word.reach + 2)]
     return least_multiple(*orders)

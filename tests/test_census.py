@@ -59,6 +59,12 @@ class SmallCensusTest(unittest.TestCase):
             word = Word.read(text)
             self.check(word, (0, 1, 2, 30, 59, 60, 61, 119, 120, 121, 122, 150, 179, 180, 181))
 
+    def test_all_sizes_around_twice_the_reach(self):
+        draw = random.Random(116)
+        for trial in range(30):
+            word = Word(*drawn_moves(draw, 6, 12, draw.choice((3, 6, 12))))
+            self.check(word, range(2 * word.reach - 2 if word.reach else 0, 2 * word.reach + 3))
+
     def test_piles_of_no_card_and_of_one(self):
         for text in NAMED_WORDS + GREAT_REACH + MANY_MOVES:
             word = Word.read(text)

@@ -147,6 +147,24 @@ class TrialTest(unittest.TestCase):
             self.assertIs(room.busy, False)
             self.assertEqual(found, outcome(room.apply_all, deeds))
 
+    def test_busy_while_the_trial_runs(self):
+        seen = []
+
+        class Watching(list):
+            """A list of deeds that looks at the room whenever it is gone through."""
+
+            def __iter__(self):
+                seen.append(room.busy)
+                return list.__iter__(self)
+
+        room = small_room()
+        room.trial(Watching([("word", "c", "over")]))
+        self.assertEqual(set(seen), {True})
+        seen.clear()
+        room.apply_all(Watching([("word", "c", "over")]))
+        self.assertEqual(set(seen), {False})
+        self.assertIs(room.busy, False)
+
     def test_the_capacity_counts(self):
         room = small_room()
         room.capacity = 2

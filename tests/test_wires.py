@@ -122,6 +122,13 @@ class SteadyOrderTest(unittest.TestCase):
             if not is_shifted(Word.read(text)):
                 self.check(Word.read(text))
 
+    def test_sizes_below_the_steady_size(self):
+        # Only the pile of 13 cards needs three rounds, or a multiple of them.
+        word = Word.read("over; swap t6 b1")
+        self.assertEqual([size for size in range(60) if order(word, size) % 3 == 0], [13])
+        self.check(word)
+        self.assertEqual(steady_order(word) % 3, 0)
+
     def test_all_sizes_are_back(self):
         draw = random.Random(123)
         for text in NAMED_WORDS + GREAT_REACH + MANY_MOVES:
